@@ -38,10 +38,9 @@ def is_fault(store, question, lot, value):
 
 def plan_table(store, question, lot):
     """Pairs of each view on the lot and the answer there; Refused(0) if the lot does not tell."""
-    if not tells(store, question, lot):
-        raise Refused(0)
     asked = checked_question(store, question)
-    table = {}
-    for place, seen in enumerate(views(store, checked_lot(store, lot))):
-        table[seen] = asked[place]
+    keys = checked_lot(store, lot)
+    if unlike_pair(store, asked, keys) is not None:
+        raise Refused(0)
+    table = {seen: asked[place] for place, seen in enumerate(views(store, keys))}
     return tuple(sorted(table.items()))

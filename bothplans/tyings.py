@@ -75,5 +75,4 @@ def is_tied_chain(store, tying, one, other, value):
 def _changing(bundles, one, other):
     """What a step may change: the keys of a bundle in which the two states differ."""
     apart = differing(one, other)
-    lots = [_common(bundle, apart) for bundle in bundles]
-    return [lot for lot in lots if lot]
+    return [_common(bundle, apart) for bundle in bundles]
