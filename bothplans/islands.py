@@ -2,34 +2,20 @@
 
 from bothplans.groups import key_groups, places_by_label
 from bothplans.masks import lots_of, mask_of
+from bothplans.roots import joined_roots, numbered
 from bothplans.stores import checked_lot, keys_outside, states_at, views
 
 
-def _root(parents, place):
-    while parents[place] != place:
-        place = parents[place]
-    return place
-
-
-def _joined_roots(roots, groups):
+def _with_groups(roots, groups):
     """The least place of the island of each place, when besides those with one root each group stands together."""
-    parents = list(roots)
-    for group in groups:
-        for place in group:
-            one = _root(parents, group[0])
-            other = _root(parents, place)
-            parents[max(one, other)] = min(one, other)
-    # No parent is greater than its place: so the roots of those before are known already.
-    for place in range(len(parents)):
-        parents[place] = parents[parents[place]]
-    return parents
+    return joined_roots(roots, [(group[0], place) for group in groups for place in group])
 
 
 def _island_roots(store, lot):
     """The least place of the island of each place; the lot is checked already."""
     roots = list(range(len(store.states)))
     for key in lot:
-        roots = _joined_roots(roots, key_groups(store, key))
+        roots = _with_groups(roots, key_groups(store, key))
     return roots
 
 
@@ -38,7 +24,7 @@ def roots_by_mask(store):
     tables = [list(range(len(store.states)))]
     for key in range(store.key_count):
         groups = key_groups(store, key)
-        tables = tables + [_joined_roots(roots, groups) for roots in tables]
+        tables = tables + [_with_groups(roots, groups) for roots in tables]
     return tables
 
 
@@ -50,11 +36,7 @@ def islands(store, lot):
 
 def island_question(store, lot):
     """The question for the index of the island."""
-    roots = _island_roots(store, checked_lot(store, lot))
-    numbers = {}
-    for root in roots:
-        numbers.setdefault(root, len(numbers))
-    return tuple([numbers[root] for root in roots])
+    return numbered(_island_roots(store, checked_lot(store, lot)))
 
 
 def _are_whole(store, lot, roots):

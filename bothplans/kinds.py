@@ -1,14 +1,24 @@
 """What kind of value something is, whatever was passed."""
 
 
+def is_integer(value):
+    """Whether a value is an integer; True and False are none."""
+    return isinstance(value, int) and not isinstance(value, bool)
+
+
 def is_number(value):
-    """Whether a value is an integer from 0 on; True and False are none."""
-    return isinstance(value, int) and not isinstance(value, bool) and value >= 0
+    """Whether a value is an integer from 0 on."""
+    return is_integer(value) and value >= 0
 
 
 def is_sequence(value):
     """Whether a value is a list or a tuple."""
     return isinstance(value, (list, tuple))
+
+
+def are_sizes(value):
+    """Whether a value is a sequence, not empty, of numbers from 1 on."""
+    return is_sequence(value) and len(value) > 0 and all([is_number(size) and size > 0 for size in value])
 
 
 def is_row(value, sizes):

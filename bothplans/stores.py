@@ -1,14 +1,14 @@
 """Stores, their states, and lots of their keys."""
 
 from bothplans.errors import InvalidLot, InvalidState, InvalidStore
-from bothplans.kinds import first_misfit, is_number, is_row, is_sequence
+from bothplans.kinds import are_sizes, first_misfit, is_number, is_row, is_sequence
 
 
 class Store:
     """Keys with so many values each, and the states that are allowed."""
 
     def __init__(self, sizes, states):
-        if not _are_sizes(sizes):
+        if not are_sizes(sizes):
             raise InvalidStore(0)
         if not is_sequence(states) or len(states) == 0:
             raise InvalidStore(1)
@@ -22,10 +22,6 @@ class Store:
 
     def __eq__(self, other):
         return isinstance(other, Store) and self.sizes == other.sizes and self.states == other.states
-
-
-def _are_sizes(value):
-    return is_sequence(value) and len(value) > 0 and all([is_number(size) and size > 0 for size in value])
 
 
 def is_allowed(store, value):

@@ -3,7 +3,7 @@
 from bothplans.errors import InvalidLot
 from bothplans.kinds import first_misfit, is_sequence
 from bothplans.masks import is_within, mask_of
-from bothplans.stores import checked_lot, checked_states, differing
+from bothplans.stores import checked_lot, checked_states, differing, is_lot
 from bothplans.walks import is_walk, shortest_walk
 
 
@@ -21,6 +21,14 @@ def checked_tying(store, value):
     if len(tied) < store.key_count:
         raise InvalidLot(len(value))
     return tuple(sorted([tuple(sorted(entry)) for entry in value]))
+
+
+def is_tying(store, value):
+    """Whether any value is a tying, all in tuples."""
+    if not isinstance(value, tuple) or not all([is_lot(store, entry) and len(entry) > 0 for entry in value]):
+        return False
+    tied = sorted([key for bundle in value for key in bundle])
+    return tied == list(range(store.key_count)) and tuple(sorted(value)) == value
 
 
 def is_coarser(store, one, other):

@@ -1,12 +1,25 @@
-"""The examples of sections 3, 4, 5 and 6 of the document, answer by answer."""
+"""The examples of sections 3 to 9 of the document, and of section 10 as far as it speaks of budgets, answer by answer."""
 
 import unittest
 
+from bothplans.budgets import Budget, value_span
+from bothplans.bundles import finest, is_joined_by, turning_bundles, tyings
 from bothplans.chains import chain, is_chain, is_joined, unjoined
 from bothplans.families import family_store, full_lots, told_keys
+from bothplans.further import told_rule, touched, with_rule
 from bothplans.islands import islands, unwhole
+from bothplans.knots import is_knot, is_tying_fault, knot
 from bothplans.least import idle_keys, is_least_paper, least_lots, needed_keys, parting_lots
+from bothplans.leveled import levels_of, unclosed
+from bothplans.levels import Levels, breach, highest, lowest
+from bothplans.linear import LinearRules, freedom, obeys
+from bothplans.linearbundles import is_least_change, linear_bundles, tying_change
+from bothplans.linearplans import is_row_evidence, is_two_plans, two_plans
+from bothplans.parts import led_back, parts, view_store
+from bothplans.putting import put_together
 from bothplans.questions import classes, turning, value_question
+from bothplans.rings import level_bundles, ring_chain, ring_rows, rings, sum_turns
+from bothplans.slices import broken_slice, is_in_one_piece, slice_of
 from bothplans.stores import Store, agreeing, neighbours, view_of
 from bothplans.telling import is_fault, plan_table, tells
 from bothplans.torn import are_torn_plans, torn_plans
@@ -54,7 +67,50 @@ class ExamplesTest(PlanCase):
 
     def test_section_6(self):
         some = Store([2, 2, 2], [(0, 0, 0), (1, 1, 0), (1, 1, 1), (1, 0, 1)])
-        self.same(tied_chain(some, [(0, 1), (2,)], (0, 0, 0), (1, 1, 1)), ((0, 0, 0), (1, 1, 0), (1, 1, 1)))
+        self.same((finest(some), is_joined_by(some, [[0, 1], [2]]),
+                   tied_chain(some, [(0, 1), (2,)], (0, 0, 0), (1, 1, 1))),
+                  (((0, 1, 2),), False, ((0, 0, 0), (1, 1, 0), (1, 1, 1))))
+        self.same((is_knot(some, 0, 2, ((0, 0, 0), (1, 0, 1))), knot(some, 1, 2),
+                   is_tying_fault(some, [[0, 1], [2]], ((0, 1), (1, 2), (0, 5, 7, 7)))),
+                  (True, None, True))
+        pairs = Store([2, 2, 2], [(0, 0, 0), (0, 0, 1), (1, 1, 0), (1, 1, 1)])
+        self.same((finest(pairs), tyings(pairs), turning_bundles(pairs, finest(pairs), (3, 3, 4, 4))),
+                  (((0, 1), (2,)), (((0, 1), (2,)), ((0, 1, 2),)), ((0, 1),)))
+
+    def test_section_7(self):
+        some = Store([3, 2], [(0, 0), (2, 0), (2, 1), (1, 1)])
+        self.same((slice_of(some, [0], (2,)).states, broken_slice(some), view_store(some, [0]).states,
+                   is_in_one_piece(Store([2, 2], [(0, 0), (1, 1)]))),
+                  (((0,), (1,)), None, ((0,), (1,), (2,)), False))
+        other = put_together(some, Store([3, 2], [(0, 0), (1, 0)]), [(0, 0)])
+        self.same((other.states, broken_slice(other), parts(other), led_back(some, [1], (5, 7))),
+                  (((0, 0, 0), (1, 1, 0)), ((), ()), ((0, 1), (2,)), (5, 7, 5, 7)))
+
+    def test_section_8(self):
+        sums = LinearRules(3, 4, [(2, 2, 2, 0, 1), [1, 1, 1, 0, 2]])
+        self.same((sums.rules, freedom(sums), obeys(sums, (0, 1, 1, 2)), linear_bundles(sums), tying_change(sums, 0, 3),
+                   is_least_change(sums, (0, 1, 2, 0))),
+                  (((1, 1, 1, 0, 2),), 3, True, ((0, 1, 2), (3,)), None, True))
+        self.same((touched(sums, [0, 1, 0, 1, 0]), linear_bundles(with_rule(sums, [0, 1, 0, 1, 0])),
+                   linear_bundles(with_rule(sums, [1, 0, 0, 0, 1])), told_rule(sums, [2, 2, 2, 0, 0])),
+                  (((0, 1, 2), (3,)), ((0, 1, 2, 3),), ((0,), (1, 2), (3,)), False))
+        self.same((is_row_evidence(sums, [2, 0, 0, 0], [1, 2], ("rule", (2, 2, 2, 0, 1))),
+                   is_two_plans(sums, (0, (1, 2), (1, 2, 0, 0))), two_plans(LinearRules(7, 2, []))),
+                  (True, True, None))
+
+    def test_section_9(self):
+        some = Levels([3, 3, 2], [(0, 1, 1, 1), (1, 1, 0, 1), (2, 1, 0, 2)])
+        self.same((lowest(some, (0, 0, 1)), highest(some, (0, 2, 1)), breach(some, (1, 2, 2, 1)), breach(some, (2, 1, 1, 1))),
+                  ((2, 1, 1), (0, 0, 0), (1, 2, 0), None))
+        self.same((rings(some), ring_rows(some, (1, 1)), level_bundles(some)),
+                  ((((0, 1), (1, 1)), ((0, 2),), ((1, 2),), ((2, 1),)), ((0, 0, 0), (1, 1, 0)), ((0, 1), (2,))))
+        self.same((len(ring_chain(some, (1, 2, 0), (2, 1, 1))), sum_turns(some, [[0, 1, 1], [0, -1, -1], [7, 7]])),
+                  (4, ()))
+        self.same((unclosed(Store([2, 2], [(0, 1), (1, 0)])), levels_of(Store([3], [[2], [0]])) == Levels([3], [[0, 1, 0, 2]])),
+                  (((0, 1), (1, 0)), True))
+
+    def test_section_10(self):
+        self.same(value_span(Budget((2, 3, 1), 4, 4), 1), (1, 3))
 
 
 if __name__ == "__main__":

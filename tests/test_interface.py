@@ -5,6 +5,9 @@ import importlib
 import inspect
 import unittest
 
+from bothplans.budgets import Budget
+from bothplans.levels import Levels
+from bothplans.linear import LinearRules
 from bothplans.stores import Store
 from tests.support import PlanCase, as_lists, as_tuples
 
@@ -16,6 +19,13 @@ QUESTION = [3, 3, 4, 4]
 UNLIKE = (((0, 0), (1, 0)),)
 TORN = ((0, 2), (2, 0), (0,), (1,), (5, 6, 7))
 WALK = ((0, 0), (0, 1), (1, 1))
+
+ANTI = Store([2, 2], [(0, 1), (1, 0)])
+ANTI_FAULT = ((0,), (1,), (3, 4))
+ANTI_PAPER = (((0, 1),), ((0, 1, (0, 1), (1, 0)),))
+SYSTEM = LinearRules(3, 4, [(1, 1, 1, 0, 2)])
+LEVELS = Levels([3, 3, 2], [(0, 1, 1, 1), (1, 1, 0, 1), (2, 1, 0, 2)])
+BUDGET = Budget([2, 3, 1], 4, 5)
 
 # Each function of the interface with its arguments, in their order, and an example of a call.
 CALLS = {
@@ -88,7 +98,90 @@ CALLS = {
         "tied_chain": {"store": SQUARE, "tying": [[1], [0]], "one": FIRST, "other": LAST},
         "is_tied_chain": {"store": SQUARE, "tying": [[1], [0]], "one": FIRST, "other": LAST, "value": WALK},
     },
+    "bundles": {
+        "is_joined_by": {"store": SQUARE, "tying": [[1], [0]]},
+        "finest": {"store": SUMS},
+        "tyings": {"store": SQUARE},
+        "tying_count": {"store": SQUARE},
+        "turning_bundles": {"store": SQUARE, "tying": [[1], [0]], "question": QUESTION},
+    },
+    "knots": {
+        "knot": {"store": ANTI, "one": 0, "other": 1},
+        "is_knot": {"store": ANTI, "one": 0, "other": 1, "value": ((0, 1), (1, 0))},
+        "finest_paper": {"store": ANTI},
+        "is_finest_paper": {"store": ANTI, "value": ANTI_PAPER},
+        "tying_fault": {"store": ANTI, "tying": [[1], [0]]},
+        "is_tying_fault": {"store": ANTI, "tying": [[1], [0]], "value": ANTI_FAULT},
+    },
+    "slices": {
+        "slice_of": {"store": SUMS, "lot": [1], "values": [2]},
+        "is_in_one_piece": {"store": SUMS},
+        "broken_slice": {"store": SUMS},
+    },
+    "parts": {
+        "view_store": {"store": SUMS, "lot": [1]},
+        "led_back": {"store": SUMS, "lot": [1], "question": [5, 6, 7]},
+        "side_by_side": {"one": SUMS, "other": SQUARE},
+        "is_parted_by": {"store": SQUARE, "tying": [[1], [0]]},
+        "parts": {"store": SQUARE},
+    },
+    "putting": {
+        "put_together": {"one": SUMS, "other": SUMS, "pairs": [(0, 1)]},
+    },
+    "linear": {
+        "LinearRules": {"prime": 3, "keys": 2, "rules": [[1, 1, 0], [2, 2, 0]]},
+        "obeys": {"system": SYSTEM, "value": (0, 1, 1, 2)},
+        "freedom": {"system": SYSTEM},
+        "linear_store": {"system": SYSTEM},
+    },
+    "linearbundles": {
+        "is_change": {"system": SYSTEM, "value": (1, 1, 1, 0)},
+        "is_least_change": {"system": SYSTEM, "value": (1, 2, 0, 0)},
+        "linear_bundles": {"system": SYSTEM},
+        "tying_change": {"system": SYSTEM, "one": 0, "other": 2},
+    },
+    "further": {
+        "told_rule": {"system": SYSTEM, "further": [2, 2, 2, 0, 1]},
+        "with_rule": {"system": SYSTEM, "further": [1, 0, 0, 1, 1]},
+        "touched": {"system": SYSTEM, "further": [1, 0, 0, 1, 1]},
+        "tying_rule": {"system": SYSTEM, "lot": [3, 1]},
+    },
+    "linearplans": {
+        "row_evidence": {"system": SYSTEM, "row": [1, 0, 0, 1], "lot": [3]},
+        "is_row_evidence": {"system": SYSTEM, "row": [1, 0, 0, 1], "lot": [3], "value": ("change", (1, 2, 0, 0))},
+        "two_plans": {"system": SYSTEM},
+        "is_two_plans": {"system": SYSTEM, "value": (0, (1, 2), (1, 2, 0, 0))},
+    },
+    "levels": {
+        "Levels": {"sizes": [3, 2], "rules": [[0, 1, 1, 1], [0, 0, 0, 0]]},
+        "keeps_rules": {"levels": LEVELS, "value": (1, 1, 0)},
+        "lowest": {"levels": LEVELS, "row": [0, 0, 1]},
+        "highest": {"levels": LEVELS, "row": [0, 2, 1]},
+        "breach": {"levels": LEVELS, "rule": [1, 2, 2, 1]},
+    },
+    "rings": {
+        "rings": {"levels": LEVELS},
+        "ring_rows": {"levels": LEVELS, "event": [1, 1]},
+        "ring_chain": {"levels": LEVELS, "one": [1, 2, 0], "other": [2, 1, 1]},
+        "level_bundles": {"levels": LEVELS},
+        "sum_turns": {"levels": LEVELS, "points": [[0, 1, 1], [0, 0, 0], [1, 0]]},
+    },
+    "leveled": {
+        "levels_store": {"levels": LEVELS},
+        "unclosed": {"store": SUMS},
+        "levels_of": {"store": SQUARE},
+    },
+    "budgets": {
+        "Budget": {"caps": [2, 3], "low": 1, "high": 9},
+        "budget_state": {"budget": BUDGET, "value": [2, 1, 1]},
+        "value_span": {"budget": BUDGET, "key": 1},
+        "budget_store": {"budget": BUDGET},
+    },
 }
+
+
+# How the names of the functions begin that tell whether something is so.
+WHETHER = ("is_", "are_", "tells", "obeys", "keeps_rules")
 
 
 def all_calls():
@@ -99,12 +192,31 @@ def all_calls():
 
 
 def plain(value):
-    """A value in which each store is its sizes and states: a text of it tells all kinds of what it consists of."""
+    """A value in which each object is its attributes: a text of it tells all kinds of what it consists of."""
     if isinstance(value, Store):
         return "Store", value.sizes, value.states
+    if isinstance(value, LinearRules):
+        return "LinearRules", value.prime, value.key_count, value.rules
+    if isinstance(value, Levels):
+        return "Levels", value.sizes, value.rules
+    if isinstance(value, Budget):
+        return "Budget", value.caps, value.low, value.high
     if isinstance(value, tuple):
         return tuple(plain(entry) for entry in value)
     return value
+
+
+def in_lists(arguments):
+    """The arguments with lists for tuples, unless just tuples are right: pairs, and what is asked to be some thing."""
+    made = {}
+    for name, value in arguments.items():
+        if name == "pairs":
+            made[name] = list(value)
+        elif name == "value" and isinstance(value, tuple):
+            made[name] = value
+        else:
+            made[name] = as_lists(value)
+    return made
 
 
 class InterfaceTest(PlanCase):
@@ -132,14 +244,11 @@ class InterfaceTest(PlanCase):
         for _, name, function, arguments in all_calls():
             wanted = function(**arguments)
             self.same_told(function(**{key: as_tuples(value) for key, value in arguments.items()}), wanted)
-            # What is asked to be some thing itself has to be in tuples.
-            listed = {key: value if key == "value" and isinstance(value, tuple) else as_lists(value)
-                      for key, value in arguments.items()}
-            self.same_told(function(**listed), wanted)
+            self.same_told(function(**in_lists(arguments)), wanted)
 
     def test_what_is_some_thing_is_so_in_tuples_alone(self):
         for _, name, function, arguments in all_calls():
-            if name.startswith(("is_", "are_")) and "value" in arguments:
+            if name.startswith(WHETHER) and "value" in arguments:
                 self.same(function(**arguments), True)
                 self.same(function(**{**arguments, "value": as_lists(arguments["value"])}), False)
                 self.same(function(**{**arguments, "value": list(arguments["value"])}), False)
@@ -158,8 +267,7 @@ class InterfaceTest(PlanCase):
 
     def test_later_changes_have_no_effect(self):
         for _, name, function, arguments in all_calls():
-            passed = {key: as_lists(value) for key, value in arguments.items() if key != "value"}
-            passed.update({key: copy.deepcopy(value) for key, value in arguments.items() if key == "value"})
+            passed = copy.deepcopy(in_lists(arguments))
             told = function(**passed)
             before = repr(plain(told))
             for value in passed.values():
@@ -174,14 +282,14 @@ class InterfaceTest(PlanCase):
         def consists_of_plain_things(value):
             if type(value) is tuple:
                 return all(consists_of_plain_things(entry) for entry in value)
-            return value is None or type(value) in (bool, int, str, Store)
+            return value is None or type(value) in (bool, int, str, Store, LinearRules, Levels, Budget)
 
         for _, name, function, arguments in all_calls():
             self.assertTrue(consists_of_plain_things(function(**arguments)), name)
 
     def test_whether_is_told_by_true_or_false(self):
         for _, name, function, arguments in all_calls():
-            if name.startswith(("is_", "are_", "tells")):
+            if name.startswith(WHETHER):
                 self.assertIs(type(function(**arguments)), bool, name)
 
 

@@ -35,7 +35,6 @@ class LanguageTest(unittest.TestCase):
         for path in FILES:
             text = path.read_text(encoding="utf-8")
             self.assertIsNone(re.search(r"[^ -~\n]", text), path.name)
-            self.assertNotIn("%", text, path.name)
             lines = text.split("\n")
             self.assertLessEqual(len(lines), 399, path.name)
             for line in lines:
@@ -44,6 +43,43 @@ class LanguageTest(unittest.TestCase):
             for node in ast.walk(tree):
                 if isinstance(node, ast.FunctionDef):
                     self.assertLessEqual(node.end_lineno - node.lineno + 1, 40, (name, node.name))
+
+    def test_no_percent_sign_in_a_string(self):
+        for name, tree in trees():
+            for node in ast.walk(tree):
+                if isinstance(node, ast.Constant) and isinstance(node.value, str):
+                    self.assertNotIn("%", node.value, (name, node.lineno))
+
+    def test_sets_are_made_where_they_are_used(self):
+        """A set stands after `in`, beside == of another one, or in sorted(..) or len(..)."""
+        for name, tree in trees():
+            right = set()
+            for node in ast.walk(tree):
+                if isinstance(node, ast.Call) and isinstance(node.func, ast.Name) and node.func.id in ("sorted", "len"):
+                    right |= {id(argument) for argument in node.args}
+                if isinstance(node, ast.Compare) and isinstance(node.ops[0], (ast.In, ast.NotIn)):
+                    right.add(id(node.comparators[0]))
+            for node in ast.walk(tree):
+                called = isinstance(node, ast.Call) and isinstance(node.func, ast.Name) and node.func.id == "set"
+                if called or isinstance(node, (ast.Set, ast.SetComp)):
+                    self.assertIn(id(node), right, (name, node.lineno))
+
+    def test_views_and_ranges_are_iterated_at_once(self):
+        """As what a loop or a comprehension goes over, or as the argument of what goes over it; a range also after in."""
+        takers = ("list", "tuple", "dict", "sorted", "sum", "any", "all", "enumerate", "zip", "min", "max", "reversed")
+        for name, tree in trees():
+            right = set()
+            for node in ast.walk(tree):
+                if isinstance(node, (ast.For, ast.comprehension)):
+                    right.add(id(node.iter))
+                if isinstance(node, ast.Call) and isinstance(node.func, ast.Name) and node.func.id in takers:
+                    right |= {id(argument) for argument in node.args}
+            for node in ast.walk(tree):
+                if isinstance(node, ast.Call):
+                    lazy = isinstance(node.func, ast.Name) and node.func.id in ("zip", "enumerate", "reversed", "range")
+                    view = isinstance(node.func, ast.Attribute) and node.func.attr in ("items", "keys", "values")
+                    if lazy or view:
+                        self.assertIn(id(node), right, (name, node.lineno))
 
     def test_only_plain_statements(self):
         for name, tree in trees():
