@@ -14,14 +14,14 @@ def row_evidence(system, row, lot):
     others = list(keys_outside(system, checked_lot(system, lot)))
     # With the leads sought among the other keys alone, each of these rules is wanted as often as the row has its lead.
     order = others + [key for key in keys_of(system) if key not in others]
-    rows = [rule for rule in reduced(system.prime, system.rules, order) if lead_of(rule, others) is not None]
-    rule = tuple([0] * (system.key_count + 1))
-    for other in rows:
-        rule = plus(system.prime, rule, asked[lead_of(other, others)], other)
+    rules = [rule for rule in reduced(system.prime, system.rules, order) if lead_of(rule, others) is not None]
+    combined = tuple([0] * (system.key_count + 1))
+    for rule in rules:
+        combined = plus(system.prime, combined, asked[lead_of(rule, others)], rule)
     for key in others:
-        if rule[key] != asked[key]:
-            return "change", freed(system.prime, [other[:-1] for other in rows], order, key)
-    return "rule", rule
+        if combined[key] != asked[key]:
+            return "change", freed(system.prime, [rule[:-1] for rule in rules], order, key)
+    return "rule", combined
 
 
 def _checked_row(system, value):
