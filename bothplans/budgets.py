@@ -39,6 +39,14 @@ def budget_state(budget, value):
     return tuple(value)
 
 
+def budget_states(budget, one, other):
+    """Any two values as a pair of states; InvalidState(0) or InvalidState(1) for what is none."""
+    first = budget_state(budget, one)
+    if not _is_state(budget, other):
+        raise InvalidState(1)
+    return first, tuple(other)
+
+
 def _is_state(budget, value):
     if not is_sequence(value) or len(value) != budget.key_count:
         return False
@@ -53,6 +61,12 @@ def value_span(budget, key):
         raise InvalidLot(0)
     others = sum(budget.caps) - budget.caps[key]
     return max(0, budget.low - others), min(budget.caps[key], budget.high)
+
+
+def unfixed_keys(budget):
+    """The free keys: those that have several values in the states."""
+    spans = [value_span(budget, key) for key in range(budget.key_count)]
+    return tuple([key for key, (least, greatest) in enumerate(spans) if least < greatest])
 
 
 def budget_store(budget):

@@ -7,12 +7,13 @@ from bothplans.stores import Store
 
 def store_text(store):
     """A line with the sizes, then a line for each state."""
-    lines = ["store " + _joined(store.sizes)]
-    lines.extend([_joined(state) for state in store.states])
+    lines = ["store " + joined_numbers(store.sizes)]
+    lines.extend([joined_numbers(state) for state in store.states])
     return "\n".join(lines)
 
 
-def _joined(numbers):
+def joined_numbers(numbers):
+    """The numbers as words, between single spaces."""
     return " ".join([str(number) for number in numbers])
 
 
@@ -26,7 +27,7 @@ def read_store(text):
         raise InvalidText(0)
     states = []
     for at in range(1, len(lines)):
-        state = _numbers_in(lines[at].split(" "))
+        state = numbers_in(lines[at].split(" "), 2)
         if not is_row(state, sizes) or (states and state <= states[-1]):
             raise InvalidText(at)
         states.append(state)
@@ -37,19 +38,19 @@ def read_store(text):
 
 def _sizes_in(line):
     words = line.split(" ")
-    sizes = _numbers_in(words[1:])
+    sizes = numbers_in(words[1:], 2)
     if words[0] != "store" or not sizes or 0 in sizes:
         return None
     return sizes
 
 
-def _numbers_in(words):
-    """The numbers that these words are, as a tuple, or None if one of them is no number."""
-    if not all([_is_number_word(word) for word in words]):
+def numbers_in(words, figures):
+    """The numbers that words are, each in at most so many figures, as a tuple; None if one of them is no number."""
+    if not all([len(word) <= figures and _is_number_word(word) for word in words]):
         return None
     return tuple([int(word) for word in words])
 
 
 def _is_number_word(word):
-    # A text stands for one store only if each number can be written in just one way.
-    return len(word) <= 2 and word.isascii() and word.isdigit() and str(int(word)) == word
+    # A text stands for one thing only if each number can be written in just one way.
+    return word.isascii() and word.isdigit() and str(int(word)) == word

@@ -1,5 +1,6 @@
 """What ties keys together: rows of allowed states, the steps of which change only some keys at once."""
 
+from bothplans.groups import first_places
 from bothplans.masks import is_within
 from bothplans.roots import joined_roots, tying_of
 
@@ -23,8 +24,7 @@ def _first_key_outside(mask):
 
 def _split(roots, values):
     """The least places with the same root and the same value."""
-    firsts = {}
-    return [firsts.setdefault(both, place) for place, both in enumerate(zip(roots, values))]
+    return first_places(list(zip(roots, values)))
 
 
 def linked_roots(tables, steps):

@@ -2,7 +2,7 @@
 
 from bothplans.chains import is_joined
 from bothplans.errors import Refused
-from bothplans.groups import key_groups
+from bothplans.groups import first_unlike, key_groups
 from bothplans.questions import are_unlike, checked_question
 from bothplans.stores import checked_lot, differing, is_state_pair, states_at
 
@@ -23,12 +23,8 @@ def turning_paper(store, question):
 
 
 def _first_turn(store, question, key):
-    # If a group has unlike answers, its first state is one of two; and the groups stand by their first states.
-    for group in key_groups(store, key):
-        for place in group:
-            if question[place] != question[group[0]]:
-                return states_at(store, (group[0], place))
-    return None
+    places = first_unlike(key_groups(store, key), question)
+    return None if places is None else states_at(store, places)
 
 
 def is_turning_paper(store, question, lot, value):

@@ -3,9 +3,10 @@
 import itertools
 import random
 
-from bothplans.linear import LinearRules
-from bothplans.levels import Levels
+from bothplans.budgets import Budget
 from bothplans.errors import InvalidStore, Refused
+from bothplans.levels import Levels
+from bothplans.linear import LinearRules
 
 
 def random_rules(chance, prime, keys, count):
@@ -96,3 +97,24 @@ def large_levels():
         yield Levels([20] * 12, rules)
         if chance.random() < 0.2:
             return
+
+
+def budget_rows(caps, low, high):
+    """The states of a budget."""
+    rows = itertools.product(*[range(cap + 1) for cap in caps])
+    return [row for row in rows if low <= sum(row) <= high]
+
+
+def caps_and_spans():
+    """Caps with low and high, also such that leave no state, or go beyond what the states reach."""
+    for caps in ([0], [3], [0, 0], [1, 1], [2, 3], [0, 4], [1, 2, 3], [2, 0, 2], [1, 1, 1, 1], [7, 0, 1, 0, 2]):
+        for low, high in itertools.product(range(sum(caps) + 2), range(sum(caps) + 3)):
+            yield caps, low, high
+
+
+def small_budgets():
+    """Pairs of a budget and its states."""
+    for caps, low, high in caps_and_spans():
+        rows = budget_rows(caps, low, high)
+        if rows:
+            yield Budget(caps, low, high), rows

@@ -8,21 +8,10 @@ from bothplans.budgets import Budget, budget_state, budget_store, value_span
 from bothplans.errors import InvalidLot, InvalidState, InvalidStore
 from bothplans.stores import Store
 from tests.support import PlanCase, Unfriendly, no_entries, no_numbers, no_sequences
+from tests.systems import budget_rows, caps_and_spans
 
 TIGHT, LOOSE = Budget((2, 3, 1), 4, 4), Budget((2, 3, 1), 4, 5)
 LARGE = 10 ** 30 - 1
-
-
-def states_of(caps, low, high):
-    rows = itertools.product(*[range(cap + 1) for cap in caps])
-    return [row for row in rows if low <= sum(row) <= high]
-
-
-def small_budgets():
-    """Caps with low and high, also such that leave no state, or go beyond what the states reach."""
-    for caps in ([0], [3], [0, 0], [1, 1], [2, 3], [0, 4], [1, 2, 3], [2, 0, 2], [1, 1, 1, 1], [7, 0, 1, 0, 2]):
-        for low, high in itertools.product(range(sum(caps) + 2), range(sum(caps) + 3)):
-            yield caps, low, high
 
 
 class BudgetTest(PlanCase):
@@ -34,8 +23,8 @@ class BudgetTest(PlanCase):
             self.assertIn(name, vars(TIGHT))
 
     def test_least_and_greatest_sum_of_a_state(self):
-        for caps, low, high in small_budgets():
-            states = states_of(caps, low, high)
+        for caps, low, high in caps_and_spans():
+            states = budget_rows(caps, low, high)
             if not states:
                 self.refuses(InvalidStore, 3, Budget, caps, low, high)
                 continue
@@ -92,8 +81,8 @@ class StatesTest(PlanCase):
         self.same(budget_store(budget=TIGHT).states, ((0, 3, 1), (1, 2, 1), (1, 3, 0), (2, 1, 1), (2, 2, 0)))
 
     def test_all_states_and_spans(self):
-        for caps, low, high in small_budgets():
-            states = states_of(caps, low, high)
+        for caps, low, high in caps_and_spans():
+            states = budget_rows(caps, low, high)
             if states:
                 budget = Budget(caps, low, high)
                 for key in range(len(caps)):

@@ -1,12 +1,17 @@
-"""The examples of sections 3 to 9 of the document, and of section 10 as far as it speaks of budgets, answer by answer."""
+"""The examples of the document, section by section, answer by answer."""
 
 import unittest
 
+from bothplans.asking import learned, must_ask, next_ask, shows
 from bothplans.budgets import Budget, value_span
+from bothplans.budgetsteps import budget_bundles, changes_needed
 from bothplans.bundles import finest, is_joined_by, turning_bundles, tyings
 from bothplans.chains import chain, is_chain, is_joined, unjoined
+from bothplans.commons import adds, common_fault, common_keys, enough_plans, sure_lots, surely_tells
+from bothplans.explaining import explained
 from bothplans.families import family_store, full_lots, told_keys
 from bothplans.further import told_rule, touched, with_rule
+from bothplans.halving import turning_change
 from bothplans.islands import islands, unwhole
 from bothplans.knots import is_knot, is_tying_fault, knot
 from bothplans.least import idle_keys, is_least_paper, least_lots, needed_keys, parting_lots
@@ -19,12 +24,17 @@ from bothplans.parts import led_back, parts, view_store
 from bothplans.putting import put_together
 from bothplans.questions import classes, turning, value_question
 from bothplans.rings import level_bundles, ring_chain, ring_rows, rings, sum_turns
+from bothplans.sayings import asks_left, sure_answers
 from bothplans.slices import broken_slice, is_in_one_piece, slice_of
 from bothplans.stores import Store, agreeing, neighbours, view_of
+from bothplans.sumlots import sum_lots
+from bothplans.sure import sure_classes, sure_way
 from bothplans.telling import is_fault, plan_table, tells
+from bothplans.told import may_rest_on, spare_keys, sure_keys
 from bothplans.torn import are_torn_plans, torn_plans
 from bothplans.turnings import rests_on, turning_paper
 from bothplans.tyings import tied_chain
+from bothplans.weighted import enough_slack, is_cut, two_cut
 from tests.support import PlanCase
 
 
@@ -110,7 +120,39 @@ class ExamplesTest(PlanCase):
                   (((0, 1), (1, 0)), True))
 
     def test_section_10(self):
-        self.same(value_span(Budget((2, 3, 1), 4, 4), 1), (1, 3))
+        tight, loose = Budget((2, 3, 1), 4, 4), Budget((2, 3, 1), 4, 5)
+        self.same((budget_bundles(tight), budget_bundles(loose), value_span(tight, 1)),
+                  (((0, 1, 2),), ((0,), (1,), (2,)), (1, 3)))
+        self.same((sum_lots(tight, (5, 5, 0)), sum_lots(loose, (5, 5, 0)), changes_needed(loose, (0, 3, 1), (2, 1, 1))),
+                  (((0, 1), (2,)), ((0, 1),), 4))
+        self.same((enough_slack((4, 4), (2, 3)), is_cut((4, 4), (2, 3), 6, 9, ((1, 2), (3, 0))),
+                   two_cut((4, 4), (2, 3), 6, 10)),
+                  (4, True, None))
+
+    def test_section_11(self):
+        square = Store([2, 2], [(0, 0), (0, 1), (1, 0), (1, 1)])
+        some = [((0, 0), 4), ((1, 0), 5), ((0, 1), 4)]
+        self.same((sure_keys(square, some), spare_keys(square, some), may_rest_on(square, some, [0]), next_ask(square, some)),
+                  ((0,), (), True, (1, 1)))
+        self.same((learned(square, lambda state: state[0] * state[1]), must_ask(square, (7, 7, 4, 4))),
+                  (((0, 1), (((0, 0), 0), ((0, 1), 0), ((1, 0), 0), ((1, 1), 1))), ((0, 0), (0, 1), (1, 0), (1, 1))))
+        self.same((turning_change(square, lambda state: state[0] + state[1], (0, 0), (0, 1)),
+                   shows(square, (0, 0, 0, 5), [(1, 1), (1, 0), (0, 1)])),
+                  (((0, 0), (0, 1)), True))
+        self.same(explained(square, lambda state: state[1], [(0, 0), (1, 0), (0, 1)]),
+                  ((1,), (((0, 0), 0), ((1, 0), 0), ((0, 1), 1))))
+
+    def test_section_12(self):
+        sums, square = Store([3, 3], [(0, 2), (1, 1), (2, 0)]), Store([2, 2], [(0, 0), (0, 1), (1, 0), (1, 1)])
+        self.same((sure_classes(sums, [(0,), (1,)]), common_fault(sums, [(0,), (1,)]), sure_lots(sums, [(0,), (1,)]),
+                   common_keys(sums, [])),
+                  ((((0, 2),), ((1, 1),), ((2, 0),)), ((0, 2), (1, 1)), ((0,), (1,)), (0, 1)))
+        self.same((sure_way(square, [(0,), (1,)], (0, 0), (0, 1)), common_fault(square, [(0,), (1,)]),
+                   adds(square, [(0,)], (0, 1)), enough_plans(square, [(0, 1), (1,)])),
+                  (((0, 0), (0, 1)), None, False, (1,)))
+        self.same((sure_answers(square, [(0,)], [((1, 1), 7)]), asks_left(square, [(0,)], [((1, 1), 7)]),
+                   surely_tells(sums, [(0,), (1,)], ())),
+                  ((None, None, 7, 7), ((0, 0),), False))
 
 
 if __name__ == "__main__":

@@ -1,4 +1,4 @@
-"""The interface, and points [1] and [2] for all functions that it lists so far."""
+"""The interface, and points [1] and [2] for all functions that it lists."""
 
 import copy
 import importlib
@@ -6,6 +6,8 @@ import inspect
 import unittest
 
 from bothplans.budgets import Budget
+from bothplans.cache import Cache
+from bothplans.desk import Desk
 from bothplans.levels import Levels
 from bothplans.linear import LinearRules
 from bothplans.stores import Store
@@ -26,6 +28,16 @@ ANTI_PAPER = (((0, 1),), ((0, 1, (0, 1), (1, 0)),))
 SYSTEM = LinearRules(3, 4, [(1, 1, 1, 0, 2)])
 LEVELS = Levels([3, 3, 2], [(0, 1, 1, 1), (1, 1, 0, 1), (2, 1, 0, 2)])
 BUDGET = Budget([2, 3, 1], 4, 5)
+TOLD = [([0, 0], 4), ([1, 0], 5), ([0, 1], 4)]
+KNOWN = [([1, 1], 7), ([0, 1], 4), ([1, 1], 7)]
+STATES = [[1, 1], [1, 0], [0, 1], [1, 1]]
+CAPS, WEIGHTS = [4, 4], [2, 3]
+SHEET = ("fault", (SQUARE, (3, 3, 4, 4), (1,)), ((0, 0), (1, 0)))
+
+
+def summed(state):
+    return sum(state)
+
 
 # Each function of the interface with its arguments, in their order, and an example of a call.
 CALLS = {
@@ -177,11 +189,84 @@ CALLS = {
         "value_span": {"budget": BUDGET, "key": 1},
         "budget_store": {"budget": BUDGET},
     },
+    "budgetsteps": {
+        "budget_bundles": {"budget": BUDGET},
+        "step_towards": {"budget": BUDGET, "one": [0, 3, 1], "other": [2, 1, 1]},
+        "changes_needed": {"budget": BUDGET, "one": [0, 3, 1], "other": [2, 1, 1]},
+    },
+    "sumlots": {
+        "sum_clash": {"budget": BUDGET, "factors": [5, -5, 0], "lot": [2, 0]},
+        "sum_lots": {"budget": BUDGET, "factors": [5, -5, 0]},
+    },
+    "weighted": {
+        "is_cut": {"caps": CAPS, "weights": WEIGHTS, "low": 6, "high": 9, "value": ((1, 2), (3, 0))},
+        "two_cut": {"caps": CAPS, "weights": WEIGHTS, "low": 6, "high": 9},
+        "enough_slack": {"caps": CAPS, "weights": WEIGHTS},
+        "slack_cut": {"caps": CAPS, "weights": WEIGHTS},
+    },
+    "told": {
+        "sure_keys": {"store": SQUARE, "told": TOLD},
+        "spare_keys": {"store": SQUARE, "told": TOLD},
+        "open_keys": {"store": SQUARE, "told": TOLD},
+        "may_rest_on": {"store": SQUARE, "told": TOLD, "lot": [1, 0]},
+    },
+    "halving": {
+        "turning_change": {"store": SQUARE, "ask": summed, "one": FIRST, "other": LAST},
+    },
+    "asking": {
+        "next_ask": {"store": SQUARE, "told": TOLD},
+        "learned": {"store": SQUARE, "ask": summed},
+        "must_ask": {"store": SQUARE, "question": QUESTION},
+        "shows": {"store": SQUARE, "question": QUESTION, "states": STATES},
+    },
+    "explaining": {
+        "explained": {"store": SQUARE, "ask": summed, "states": STATES},
+    },
+    "sure": {
+        "sure_classes": {"store": SUMS, "lots": [[1], [1, 0]]},
+        "sure_way": {"store": SQUARE, "lots": [[1], [0]], "one": FIRST, "other": LAST},
+        "is_sure_way": {"store": SQUARE, "lots": [[1], [0]], "one": FIRST, "other": LAST, "value": WALK},
+        "class_question": {"store": SQUARE, "lots": [[1], [1, 0]]},
+    },
+    "commons": {
+        "common_keys": {"store": SQUARE, "lots": [[1], [1, 0]]},
+        "surely_tells": {"store": SQUARE, "lots": [[1], [1, 0]], "lot": [1]},
+        "sure_lots": {"store": SUMS, "lots": [[1], [0]]},
+        "common_fault": {"store": SUMS, "lots": [[1], [0]]},
+        "adds": {"store": SQUARE, "lots": [[1], [1, 0]], "lot": [0]},
+        "enough_plans": {"store": SQUARE, "lots": [[1, 0], [1]]},
+        "are_enough_plans": {"store": SQUARE, "lots": [[1, 0], [1]], "value": (1,)},
+    },
+    "sayings": {
+        "sure_answers": {"store": SQUARE, "lots": [[1, 0]], "known": KNOWN},
+        "asks_left": {"store": SQUARE, "lots": [[1, 0]], "known": KNOWN},
+    },
+    "cache": {
+        "Cache": {"store": SQUARE, "state": [0, 1]},
+    },
+    "sheets": {
+        "sheet_holds": {"value": SHEET},
+        "sheet": {"name": "fault", "question": SHEET[1]},
+        "wrong_sheets": {"values": [SHEET, SHEET[:2]]},
+    },
+    "desk": {
+        "Desk": {},
+    },
+}
+
+# The methods of the interface with their arguments, in their order.
+METHODS = {
+    Cache: {"__len__": [], "state": [], "kept": [], "found": [], "ask": ["question", "plan"], "change": ["state"], "undo": [],
+            "within": ["work"]},
+    Desk: {"say": ["command"]},
 }
 
 
 # How the names of the functions begin that tell whether something is so.
-WHETHER = ("is_", "are_", "tells", "obeys", "keeps_rules")
+WHETHER = ("is_", "are_", "tells", "obeys", "keeps_rules", "surely_tells", "adds", "may_rest_on", "shows", "sheet_holds")
+
+# Arguments in which some things must be tuples, and what may be in lists there.
+PAIRED = ("pairs", "told", "known")
 
 
 def all_calls():
@@ -201,17 +286,29 @@ def plain(value):
         return "Levels", value.sizes, value.rules
     if isinstance(value, Budget):
         return "Budget", value.caps, value.low, value.high
-    if isinstance(value, tuple):
-        return tuple(plain(entry) for entry in value)
+    if isinstance(value, Cache):
+        return "Cache", plain(value.store), value.state(), value.kept(), value.found(), len(value)
+    if isinstance(value, Desk):
+        return "Desk", plain(value.cache)
+    if isinstance(value, (list, tuple)):
+        return type(value)(plain(entry) for entry in value)
     return value
+
+
+def tupled(arguments):
+    return {key: as_tuples(value) for key, value in arguments.items()}
 
 
 def in_lists(arguments):
     """The arguments with lists for tuples, unless just tuples are right: pairs, and what is asked to be some thing."""
     made = {}
     for name, value in arguments.items():
-        if name == "pairs":
+        if name in PAIRED:
+            made[name] = [tuple(as_lists(entry)) for entry in value]
+        elif name == "values" and SHEET in value:
             made[name] = list(value)
+        elif name == "question" and isinstance(value[0], Store):
+            made[name] = value
         elif name == "value" and isinstance(value, tuple):
             made[name] = value
         else:
@@ -235,6 +332,15 @@ class InterfaceTest(PlanCase):
                 self.assertEqual(parameter.kind, parameter.POSITIONAL_OR_KEYWORD, name)
                 self.assertEqual(parameter.default, parameter.empty, name)
 
+    def test_methods_are_defined_in_their_class(self):
+        for kind, methods in METHODS.items():
+            for name, arguments in methods.items():
+                parameters = list(inspect.signature(vars(kind)[name]).parameters.values())[1:]
+                self.assertEqual([parameter.name for parameter in parameters], arguments, name)
+                for parameter in parameters:
+                    self.assertEqual(parameter.kind, parameter.POSITIONAL_OR_KEYWORD, name)
+                    self.assertEqual(parameter.default, parameter.empty, name)
+
     def test_by_name_as_by_place(self):
         for _, name, function, arguments in all_calls():
             backwards = {key: arguments[key] for key in reversed(list(arguments))}
@@ -243,7 +349,7 @@ class InterfaceTest(PlanCase):
     def test_lists_and_tuples_alike(self):
         for _, name, function, arguments in all_calls():
             wanted = function(**arguments)
-            self.same_told(function(**{key: as_tuples(value) for key, value in arguments.items()}), wanted)
+            self.same_told(function(**tupled(arguments)), wanted)
             self.same_told(function(**in_lists(arguments)), wanted)
 
     def test_what_is_some_thing_is_so_in_tuples_alone(self):
@@ -282,7 +388,7 @@ class InterfaceTest(PlanCase):
         def consists_of_plain_things(value):
             if type(value) is tuple:
                 return all(consists_of_plain_things(entry) for entry in value)
-            return value is None or type(value) in (bool, int, str, Store, LinearRules, Levels, Budget)
+            return value is None or type(value) in (bool, int, str, Store, LinearRules, Levels, Budget, Cache, Desk)
 
         for _, name, function, arguments in all_calls():
             self.assertTrue(consists_of_plain_things(function(**arguments)), name)

@@ -16,7 +16,7 @@ METHODS = set("""append clear copy count endswith extend find get index insert i
 BARRED = set("""register mro elements open input law version_info with_traceback add_note type typing enum eval exec
     compile dir vars id help globals locals exit quit os gc next iter map filter hash round""".split())
 STATEMENTS = (ast.Assign, ast.AugAssign, ast.If, ast.While, ast.For, ast.Return, ast.Break, ast.Continue, ast.Pass,
-              ast.Raise, ast.Expr, ast.FunctionDef, ast.ClassDef, ast.ImportFrom)
+              ast.Raise, ast.Expr, ast.FunctionDef, ast.ClassDef, ast.ImportFrom, ast.Try)
 
 
 def trees():
@@ -132,10 +132,32 @@ class LanguageTest(unittest.TestCase):
             self.assertFalse(read - bound - imported - defined - BUILTINS, name)
 
     def test_methods_of_builtin_values(self):
+        own = {node.name for _, tree in trees() for top in tree.body if isinstance(top, ast.ClassDef)
+               for node in top.body if isinstance(node, ast.FunctionDef)}
+        self.assertFalse(own & METHODS)
         for name, tree in trees():
             for node in ast.walk(tree):
                 if isinstance(node, ast.Call) and isinstance(node.func, ast.Attribute):
-                    self.assertIn(node.func.attr, METHODS, (name, node.lineno))
+                    self.assertIn(node.func.attr, METHODS | own, (name, node.lineno))
+
+    def test_what_a_try_catches_and_ends_with(self):
+        """Own errors alone are caught; a finally gives names and attributes what names hold."""
+        for name, tree in trees():
+            for node in ast.walk(tree):
+                if isinstance(node, ast.Try):
+                    self.assertFalse(node.orelse, name)
+                    for handler in node.handlers:
+                        self.assertEqual((handler.type.id, handler.name), ("PlanError", None), name)
+                    for line in node.finalbody:
+                        self.assertIsInstance(line, ast.Assign, name)
+                        for part in ast.walk(line):
+                            self.assertIsInstance(part, (ast.Assign, ast.Tuple, ast.Attribute, ast.Name, ast.expr_context), name)
+
+    def test_len_is_that_of_something(self):
+        for name, tree in trees():
+            for node in ast.walk(tree):
+                if isinstance(node, ast.FunctionDef) and node.name == "__len__":
+                    self.assertRegex(ast.unparse(node.body[-1]), r"^return len\([a-z_.]+\)$", name)
 
     def test_is_stands_beside_none_true_and_false(self):
         for name, tree in trees():
