@@ -12,10 +12,10 @@ class Cache:
 
     def __init__(self, store, state):
         self.store = store
-        self._tying = finest(store)
         # The state, a dict of the held lot and the answer of each kept question, and how many answers were found anew.
         self._now = (checked_state(store, state), {}, 0)
         self._past = []
+        self._tying = finest(store)
 
     def __len__(self):
         return len(self._past)

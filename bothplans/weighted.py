@@ -39,29 +39,33 @@ def two_cut(caps, weights, low, high):
     # down with the second key. Of such tuples that with the least first value has the greatest second one, too.
     least = max(low, high - weights[0] + 1)
     most = min(high, low + weights[1] - 1)
-    one = _first_tuple(weights, least, most, (0, caps[0]), (0, caps[1]))
+    one = _first_tuple(weights, least, most, 0, caps)
     if one is None:
         return None
-    other = _first_tuple(weights, low, high, (one[0] + 1, caps[0]), (0, one[1] - 1))
+    other = _first_tuple(weights, low, high, one[0] + 1, (caps[0], one[1] - 1))
     return None if other is None else (one, other)
 
 
-def _first_tuple(weights, least, most, span, other_span):
-    """The pair of values within two spans that weighs from least to most and has the least first value, or None."""
+def _first_tuple(weights, least, most, start, caps):
+    """Of the pairs of values up to caps that weigh from least to most that with the least first value, or None.
+
+    Only first values from a start on count.
+    """
     weight, other_weight = weights
-    if least > most or other_span[0] > other_span[1]:
+    if least > most:
         return None
-    start = max(span[0], rounded_up(least - other_weight * other_span[1], weight))
-    # From the start on, what is wanted is just a multiple of the other weight among what may be left.
+    # Below it, the second value would be beyond its cap.
+    start = max(start, rounded_up(least - other_weight * caps[1], weight))
+    # From there on, what is wanted is just a multiple of the other weight among what may be left.
     left = (most - weight * start) % other_weight
     if left > most - least:
         steps = first_multiple(weight, other_weight, left - (most - least), left)
         if steps is None:
             return None
         start = start + steps
-    if start > span[1] or weight * start + other_weight * other_span[0] > most:
+    if start > caps[0] or weight * start > most:
         return None
-    return start, min(other_span[1], (most - weight * start) // other_weight)
+    return start, min(caps[1], (most - weight * start) // other_weight)
 
 
 def _two_heaviest(caps, weights):

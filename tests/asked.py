@@ -1,8 +1,15 @@
-"""Joined stores to ask in, and functions that note what they are asked."""
+"""Joined stores to ask in, functions that note what they are asked, and told answers."""
 
 from bothplans.chains import is_joined
 from bothplans.stores import Store
-from tests.support import all_rows, limit_stores, small_stores
+from tests.support import Unfriendly, all_rows, full_store, limit_stores, small_stores
+
+# Entries that are no pairs of an allowed state and a number.
+NO_PAIRS = [
+    (), ((0, 0),), ((0, 0), 1, 2), [(0, 0), 1], ((0, 0), True), ((0, 0), -1), ((0, 0), 1.0), ((0, 0), None), ((0, 0), "1"),
+    ((0, 2), 1), ((0,), 1), ((0, 0, 0), 1), ((0, False), 1), ((True, 0), 1), ((0.0, 0), 1), (0, 1), (None, 1), (1, (0, 0)),
+    ("00", 1), ((0, Unfriendly()), 1), (Unfriendly(), 1), ((0, 0), Unfriendly()), {(0, 0): 1}, "ab",
+]
 
 
 class Asked:
@@ -36,6 +43,20 @@ def joined_limit_stores():
     yield Store([8] * 8, steps)
     rows = [row for row in all_rows([2] * 8) if all(one >= other for one, other in zip(row, row[1:]))]
     yield Store([2] * 8, rows)
+
+
+def tiny_stores():
+    """Joined stores, with enough answers that each way in which a question can fit occurs with them."""
+    yield Store([1], [[0]]), 3
+    yield Store([2, 3], [(1, 2)]), 3
+    yield Store([3], [[0], [2]]), 4
+    yield Store([2, 3], [(0, 1), (1, 1)]), 4
+    yield Store([4, 2], [(0, 0), (1, 0), (3, 0), (3, 1)]), 5
+    yield full_store(2, 2), 5
+    yield Store([2, 2, 2], [(0, 0, 0), (0, 0, 1), (0, 1, 1), (1, 1, 1)]), 4
+    yield Store([3, 2], [(0, 0), (2, 0), (2, 1), (1, 1)]), 4
+    yield Store([3, 2], [(0, 0), (0, 1), (1, 0), (1, 1), (2, 0)]), 4
+    yield Store([2, 2, 2], [(0, 0, 0), (0, 0, 1), (0, 1, 0), (1, 0, 0), (1, 0, 1)]), 4
 
 
 def some_told(chance, store, count):

@@ -10,9 +10,8 @@ from bothplans.least import least_lots
 from bothplans.stores import Store
 from bothplans.told import open_keys, spare_keys, sure_keys
 from tests import reference
-from tests.asked import Asked, joined_limit_stores, joined_stores, some_told
+from tests.asked import NO_PAIRS, Asked, joined_limit_stores, joined_stores, some_told, tiny_stores
 from tests.support import PlanCase, Unfriendly, full_store, no_entries, no_sequences, some_questions
-from tests.test_told import NO_PAIRS, tiny_stores
 
 SUMS = Store([3, 3], [(0, 2), (1, 1), (2, 0)])
 SQUARE = full_store(2, 2)

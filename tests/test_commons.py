@@ -12,8 +12,8 @@ from bothplans.errors import InvalidLot
 from bothplans.stores import Store
 from bothplans.sure import class_question, sure_classes
 from tests import reference
+from tests.plans import alike, check_lots_refused, some_lots
 from tests.support import PlanCase, as_lists, full_store, limit_stores, no_entries, no_numbers, no_sequences, small_stores
-from tests.test_sure import alike, check_lots_refused, some_lots
 
 SUMS = Store([3, 3], [(0, 2), (1, 1), (2, 0)])
 SQUARE = full_store(2, 2)

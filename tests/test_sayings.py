@@ -8,9 +8,9 @@ from bothplans.errors import InvalidLot, InvalidQuestion, Refused
 from bothplans.sayings import asks_left, sure_answers
 from bothplans.stores import Store
 from tests import reference
+from tests.asked import NO_PAIRS
+from tests.plans import alike, check_lots_refused, some_lots
 from tests.support import PlanCase, as_lists, full_store, limit_stores, no_entries, no_numbers, no_sequences, small_stores
-from tests.test_sure import alike, check_lots_refused, some_lots
-from tests.test_told import NO_PAIRS
 
 SUMS = Store([3, 3], [(0, 2), (1, 1), (2, 0)])
 SQUARE = full_store(2, 2)

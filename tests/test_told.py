@@ -10,37 +10,13 @@ from bothplans.least import least_lots
 from bothplans.stores import Store
 from bothplans.told import may_rest_on, open_keys, spare_keys, sure_keys
 from tests import reference
-from tests.support import (
-    PlanCase, Unfriendly, full_store, limit_stores, no_entries, no_numbers, no_sequences, some_questions,
-)
-from tests.asked import joined_limit_stores, joined_stores, some_told
+from tests.asked import NO_PAIRS, joined_limit_stores, joined_stores, some_told, tiny_stores
+from tests.support import PlanCase, full_store, limit_stores, no_entries, no_numbers, no_sequences, some_questions
 
 SUMS = Store([3, 3], [(0, 2), (1, 1), (2, 0)])
 SQUARE = full_store(2, 2)
 ONE = Store([2, 3], [(1, 2)])
 SOME = [((0, 0), 4), ((1, 0), 5), ((0, 1), 4)]
-
-# Entries that are no pairs of an allowed state and a number.
-NO_PAIRS = [
-    (), ((0, 0),), ((0, 0), 1, 2), [(0, 0), 1], ((0, 0), True), ((0, 0), -1), ((0, 0), 1.0), ((0, 0), None), ((0, 0), "1"),
-    ((0, 2), 1), ((0,), 1), ((0, 0, 0), 1), ((0, False), 1), ((True, 0), 1), ((0.0, 0), 1), (0, 1), (None, 1), (1, (0, 0)),
-    ("00", 1), ((0, Unfriendly()), 1), (Unfriendly(), 1), ((0, 0), Unfriendly()), {(0, 0): 1}, "ab",
-]
-
-
-def tiny_stores():
-    """Joined stores, with enough answers that each way in which a question can fit occurs with them."""
-    yield Store([1], [[0]]), 3
-    yield ONE, 3
-    yield Store([3], [[0], [2]]), 4
-    yield Store([2, 3], [(0, 1), (1, 1)]), 4
-    yield Store([4, 2], [(0, 0), (1, 0), (3, 0), (3, 1)]), 5
-    yield SQUARE, 5
-    yield Store([2, 2, 2], [(0, 0, 0), (0, 0, 1), (0, 1, 1), (1, 1, 1)]), 4
-    yield Store([3, 2], [(0, 0), (2, 0), (2, 1), (1, 1)]), 4
-    yield Store([3, 2], [(0, 0), (0, 1), (1, 0), (1, 1), (2, 0)]), 4
-    yield Store([2, 2, 2], [(0, 0, 0), (0, 0, 1), (0, 1, 0), (1, 0, 0), (1, 0, 1)]), 4
-
 
 def fitting(questions, states, told):
     """The least lots of the questions that have the told answers."""
